@@ -1,0 +1,1 @@
+"""Onehue: pairs, sums and steps dyed with a few hues, and triples of one hue."""
