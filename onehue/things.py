@@ -5,9 +5,13 @@ from onehue.errors import NoKind, NoSize
 GREATEST = {"pairs": 9, "sums": 40, "steps": 40}
 
 
-def check_kind_and_size(kind, size):
+def check_kind(kind):
     if kind not in GREATEST:
         raise NoKind(f"{kind!r} is no kind")
+
+
+def check_kind_and_size(kind, size):
+    check_kind(kind)
     greatest = GREATEST[kind]
     if size < 0 or size > greatest:
         raise NoSize(f"{size} is no size of {kind}, which has those from 0 to {greatest}")

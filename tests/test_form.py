@@ -49,6 +49,23 @@ def nodes(kind):
     return [(name, node) for name, tree in trees() for node in ast.walk(tree) if isinstance(node, kind)]
 
 
+def names_of_top(tree, with_imports=True):
+    names = []
+    for node in tree.body:
+        if isinstance(node, (ast.FunctionDef, ast.ClassDef)):
+            names.append(node.name)
+        elif isinstance(node, ast.Assign):
+            names.append(node.targets[0].id)
+        elif isinstance(node, ast.ImportFrom) and with_imports:
+            names += [drawn.asname or drawn.name for drawn in node.names]
+    return names
+
+
+def names_within(function):
+    stored = [node.id for node in ast.walk(function) if isinstance(node, ast.Name) and isinstance(node.ctx, ast.Store)]
+    return stored + [node.arg for node in ast.walk(function) if isinstance(node, ast.arg)]
+
+
 class TestForm(unittest.TestCase):
     def test_the_folder_holds_plain_files_alone(self):
         self.assertTrue((PACKAGE / "__init__.py").is_file())
@@ -111,6 +128,60 @@ class TestForm(unittest.TestCase):
         for name, node in nodes(ast.Attribute):
             with self.subTest(name, line=node.lineno):
                 self.assertTrue(node.attr in METHODS_OF_PYTHON or node.attr not in theirs, node.attr)
+
+    def test_one_target_and_no_else_or_finally(self):
+        for name, node in nodes((ast.Assign, ast.For, ast.While, ast.Try)):
+            with self.subTest(name, line=node.lineno):
+                self.assertEqual(len(getattr(node, "targets", ["one"])), 1)
+                self.assertFalse(getattr(node, "finalbody", []))
+                self.assertFalse(isinstance(node, (ast.For, ast.While)) and node.orelse)
+
+    def test_comprehensions_and_braces_are_plain(self):
+        for name, node in nodes((ast.ListComp, ast.FormattedValue)):
+            with self.subTest(name, line=node.lineno):
+                if isinstance(node, ast.ListComp):
+                    self.assertEqual(len(node.generators), 1)
+                    self.assertLessEqual(len(node.generators[0].ifs), 1)
+                else:
+                    self.assertIsInstance(node.value, ast.Name)
+                    self.assertIsNone(node.format_spec)
+
+    def test_is_stands_beside_none_true_and_false_alone(self):
+        for name, node in nodes(ast.Compare):
+            for sign, right in zip(node.ops, node.comparators):
+                if isinstance(sign, (ast.Is, ast.IsNot)):
+                    with self.subTest(name, line=node.lineno):
+                        self.assertIsInstance(right, ast.Constant)
+
+    def test_each_name_of_a_files_top_is_bound_once(self):
+        for name, tree in trees():
+            with self.subTest(name):
+                self.assertEqual(sorted(names_of_top(tree)), sorted(set(names_of_top(tree))))
+
+    def test_parameters_and_locals_are_called_like_nothing_else(self):
+        for name, tree in trees():
+            for node in ast.walk(tree):
+                if isinstance(node, ast.FunctionDef):
+                    for local in names_within(node):
+                        with self.subTest(name, line=node.lineno, local=local):
+                            self.assertNotIn(local, names_of_top(tree))
+                            self.assertFalse(local.startswith("_") or hasattr(builtins, local))
+
+    def test_each_name_is_drawn_from_the_file_that_defines_it(self):
+        tops = {"onehue." + name.removesuffix(".py"): tree for name, tree in trees()}
+        for name, node in nodes(ast.ImportFrom):
+            with self.subTest(name, line=node.lineno):
+                own = names_of_top(tops[node.module], False)
+                self.assertTrue(all(drawn.name in own and drawn.asname is None for drawn in node.names))
+
+    def test_no_two_files_draw_from_one_another(self):
+        drawn = {"onehue." + path.stem: set() for path in files()}
+        for name, node in nodes(ast.ImportFrom):
+            drawn["onehue." + name.removesuffix(".py")].add(node.module)
+        while drawn:
+            ready = [module for module in drawn if not drawn[module] & set(drawn)]
+            self.assertTrue(ready, drawn)
+            drawn = {module: drawn[module] for module in drawn if module not in ready}
 
 
 if __name__ == "__main__":

@@ -1,46 +1,19 @@
 import unittest
-from itertools import combinations, combinations_with_replacement
+
+from picked import GREATEST, OTHER_KINDS, number_of_things, other_sizes, picked_triples
 
 from onehue.errors import NoKind, NoSize
 from onehue.things import things, triples
 
-GREATEST = {"pairs": 9, "sums": 40, "steps": 40}
 ALL_SIZES = [(kind, size) for kind in GREATEST for size in range(GREATEST[kind] + 1)]
-OTHER_KINDS = ["", " ", "pair", "Pairs", "PAIRS", "pairs ", " sums", "sums\n", "sum", "step", "Steps", "0", "pairssums"]
-
-
-# The lists to compare with are picked out of all threes of things, where the program walks points and numbers.
-
-
-def told_pairs(size):
-    return [(low, high) for low in range(size) for high in range(size) if low < high]
-
-
-def picked_pairs(size):
-    pairs = sorted(told_pairs(size))
-    threes = combinations(range(len(pairs)), 3)
-    return [three for three in threes if len(set().union(*[pairs[thing] for thing in three])) == 3]
-
-
-def picked_sums(size):
-    threes = combinations_with_replacement(range(size), 3)
-    return [(x, y, z) for x, y, z in threes if (x + 1) + (y + 1) == z + 1]
-
-
-def picked_steps(size):
-    return [(x, y, z) for x, y, z in combinations(range(size), 3) if y - x == z - y]
-
-
-PICKED = {"pairs": picked_pairs, "sums": picked_sums, "steps": picked_steps}
 
 
 class TestThings(unittest.TestCase):
     def test_counts_at_all_sizes(self):
         for kind, size in ALL_SIZES:
             with self.subTest(kind=kind, size=size):
-                expected = len(told_pairs(size)) if kind == "pairs" else len(range(1, size + 1))
                 told = things(kind, size)
-                self.assertEqual(told, expected)
+                self.assertEqual(told, number_of_things(kind, size))
                 self.assertIs(type(told), int)
 
     def test_counts_by_hand(self):
@@ -53,7 +26,7 @@ class TestTriples(unittest.TestCase):
     def test_lists_at_all_sizes(self):
         for kind, size in ALL_SIZES:
             with self.subTest(kind=kind, size=size):
-                self.assertEqual(triples(kind, size), sorted(PICKED[kind](size)))
+                self.assertEqual(triples(kind, size), picked_triples(kind, size))
 
     def test_pairs_by_hand(self):
         for size in [0, 1, 2]:
@@ -107,7 +80,7 @@ class TestTriples(unittest.TestCase):
                 self.assertIsNot(kept, changed)
                 changed.reverse()
                 changed.append("more")
-                self.assertEqual(kept, PICKED[kind](size))
+                self.assertEqual(kept, picked_triples(kind, size))
                 self.assertEqual(triples(kind, size), kept)
                 changed.clear()
                 self.assertEqual(triples(kind, size), kept)
@@ -127,8 +100,8 @@ class TestRefusals(unittest.TestCase):
                 self.check_refused(NoKind, kind, size)
 
     def test_another_size(self):
-        for kind, greatest in GREATEST.items():
-            for size in [-100, -2, -1, greatest + 1, greatest + 2, 99, 100]:
+        for kind in GREATEST:
+            for size in other_sizes(kind):
                 self.check_refused(NoSize, kind, size)
 
     def test_another_text_and_another_size_at_once(self):
